@@ -1,0 +1,1 @@
+"""One thread through all cells of a square, at every depth."""

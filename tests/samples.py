@@ -1,0 +1,174 @@
+"""Books and other values for the tests, and the document carried out word by word."""
+
+import random
+
+ROWS = (2, (((0, 0, 0), (1, 0, 0), (0, 1, 0), (1, 1, 0)),))
+BENDS = (2, (
+    ((0, 0, 1), (0, 1, 0), (1, 1, 0), (1, 0, 2)),
+    ((0, 0, 0), (1, 0, 1), (1, 1, 1), (0, 1, 3)),
+    ((1, 1, 3), (0, 1, 2), (0, 0, 2), (1, 0, 0)),
+    ((1, 1, 2), (1, 0, 3), (0, 0, 3), (0, 1, 1)),
+))
+# The thread of Peano, with its four kinds: as it is, and with x, y or both the other way.
+_SNAKE = ((0, 0), (0, 1), (0, 2), (1, 2), (1, 1), (1, 0), (2, 0), (2, 1), (2, 2))
+PEANO = (3, tuple(
+    tuple((2 - x if right else x, 2 - y if up else y, ((x + up) % 2) * 2 + (y + right) % 2) for x, y in _SNAKE)
+    for up in range(2) for right in range(2)
+))
+# The thread of Moore: four bends, gone backward, that close to a ring.
+RING_OF_BENDS = (2, (((0, 0, 3), (0, 1, 3), (1, 1, 2), (1, 0, 2)),) + tuple(
+    tuple((x, y, kind + 1) for x, y, kind in parts[::-1]) for parts in BENDS[1]
+))
+
+ALL_POSTURES = [(way, mirror) for way in range(4) for mirror in range(2)]
+
+
+def random_book(seed, b, many):
+    """A book of so many kinds, the same one for the same seed."""
+    chance = random.Random(f"{seed} {b} {many}")
+    places = [(x, y) for x in range(b) for y in range(b)]
+    kinds = []
+    for _ in range(many):
+        chance.shuffle(places)
+        kinds.append(tuple((x, y, chance.randrange(many)) for x, y in places))
+    return (b, tuple(kinds))
+
+
+def one_sequence_book(seed, b, many):
+    """A book whose kinds have few sequences of places, so that many kinds are close to each other."""
+    chance = random.Random(f"one {seed} {b} {many}")
+    places = [(x, y) for x in range(b) for y in range(b)]
+    other = places[::-1]
+    kinds = []
+    for k in range(many):
+        sequence = other if k == many - 1 else places
+        kinds.append(tuple((x, y, chance.randrange(many)) for x, y in sequence))
+    return (b, tuple(kinds))
+
+
+def small_books():
+    """Books for the comparisons at small depths."""
+    books = [ROWS, BENDS, PEANO, RING_OF_BENDS]
+    for b in (2, 3):
+        for many in (1, 2, 3, 5):
+            for seed in range(3):
+                books.append(random_book(seed, b, many))
+                books.append(one_sequence_book(seed, b, many))
+    return books
+
+
+def large_books():
+    """Books of twenty kinds."""
+    return [random_book(seed, b, 20) for b in (2, 3) for seed in range(2)] + [chain(2, 20), chain(3, 20)]
+
+
+def chain(b, many, last=None):
+    """Kinds with one sequence, each leading to the next one alone; only the last one's is another."""
+    places = [(x, y) for y in range(b) for x in range(b)]
+    kinds = [tuple((x, y, k + 1) for x, y in places) for k in range(many - 1)]
+    kinds.append(tuple((x, y, many - 1) for x, y in last or places[::-1]))
+    return (b, tuple(kinds))
+
+
+def cells_in_words(book, d, kind=0):
+    """Promise 4, word by word: the cells of the thread of a kind at a depth."""
+    if d == 0:
+        return [(0, 0)]
+    b, kinds = book
+    side = b ** (d - 1)
+    cells = []
+    for x, y, below in kinds[kind]:
+        cells += [(x * side + u, y * side + v) for u, v in cells_in_words(book, d - 1, below)]
+    return cells
+
+
+def kinds_in_words(book, d, kind=0):
+    """The tuples of kinds on the way to all numbers of a depth."""
+    if d == 0:
+        return [(kind,)]
+    ways = []
+    for _, _, below in book[1][kind]:
+        ways += [(kind,) + way for way in kinds_in_words(book, d - 1, below)]
+    return ways
+
+
+def cell_in_words(book, d, number, kind=0):
+    """Promise 4, word by word: the cell of one number, part by part from the top."""
+    if d == 0:
+        return (0, 0)
+    b, kinds = book
+    side = b ** (d - 1)
+    before = 0
+    for x, y, below in kinds[kind]:
+        if before <= number < before + side * side:
+            u, v = cell_in_words(book, d - 1, number - before, below)
+            return (x * side + u, y * side + v)
+        before += side * side
+    raise AssertionError("no number of the depth")
+
+
+def quarter_turn(size, cell):
+    """A cell of a square behind a quarter turn against the clock, by the cell's middle about the square's."""
+    # All lengths are doubled: the middle of the square is then at whole numbers.
+    x, y = 2 * cell[0] + 1 - size, 2 * cell[1] + 1 - size
+    x, y = -y, x
+    return ((x - 1 + size) // 2, (y - 1 + size) // 2)
+
+
+def cell_in_posture(size, posture, cell):
+    """Promise 8, word by word."""
+    for _ in range(posture[0]):
+        cell = quarter_turn(size, cell)
+    return cell[::-1] if posture[1] else cell
+
+
+def same_at_depths(one, other, d):
+    """For each kind of one and each of the other: whether their threads are the same at the depths 0 to d."""
+    same = {(k, j): True for k in range(len(one[1])) for j in range(len(other[1]))}
+    for _ in range(d):
+        same = {
+            (k, j): all(p[:2] == q[:2] and same[p[2], q[2]] for p, q in zip(one[1][k], other[1][j]))
+            for k, j in same
+        }
+    return same
+
+
+def wrong_books():
+    """What is no book, in many ways."""
+    rows = ROWS[1][0]
+    snake = tuple((x, y, 0) for x, y in _SNAKE)
+    books = [
+        None, True, False, 0, 2, -1, 1.5, "", "book", "ab", b"ab", {}, {2: (rows,)}, [], (), (2,), ((rows,),),
+        (2, (rows,), 0), (2, (rows,), None), [2, (rows,)], ((rows,), 2), (2, 2), rows, (rows,), {2, 3},
+    ]
+    books += [(b, (rows,)) for b in (0, 1, 3, 4, -2, 10 ** 30, True, False, "2", "", None, 2.0, (2,), [2], {})]
+    books += [(b, (snake,)) for b in (0, 1, 2, 4, 9, True, "3", None, 3.0, [3])]
+    books += [(1, (((0, 0, 0),),)), (True, (((0, 0, 0),),)), (1, ()), (0, ((),)), (4, (tuple(
+        (x, y, 0) for x in range(4) for y in range(4)),))]
+    books += [(2, kinds) for kinds in (
+        (), [], {}, None, 0, True, "abcd", "", [rows], {0: rows}, (list(rows),), (None,), (0,), ("abcd",), ((),),
+        (rows, ()), (rows, None), (rows, list(rows)), (rows[:3],), (rows + rows[:1],), (rows, rows[:3]),
+        (rows, rows + ((1, 1, 1),)), rows, (rows, True), (rows, {}), ((rows,),), (rows, 0), (set(rows),),
+    )]
+    books += [(2, (kind,)) for kind in broken_kinds(rows, 2, 1)]
+    books += [(2, (rows, kind)) for kind in broken_kinds(rows, 2, 2)]
+    books += [(3, (snake, kind)) for kind in broken_kinds(snake, 3, 2)]
+    books += [(3, (snake, rows)), (2, (rows, snake)), [3, [list(list(part) for part in snake)]]]
+    return books
+
+
+def broken_kinds(kind, b, many):
+    """A right kind of a book of so many kinds with one part made wrong, in many ways."""
+    x, y, below = kind[-1]
+    parts = [
+        (), (x,), (x, y), (x, y, below, 0), (x, y, below, below, 0), [x, y, below], None, True, 0, "110", "", {},
+        {x: 0, y: 1, below: 2}, (x, y, many), (x, y, -1), (x, y, 10 ** 30), (x, y, -10 ** 30), (x, y, True),
+        (x, y, False), (x, y, "0"), (x, y, None), (x, y, 0.0), (x, y, (0,)), (x, y, [0]), (x, y, {}),
+        (b, y, below), (-1, y, below), (x, b, below), (x, -1, below), (10 ** 30, y, below), (x, -10 ** 30, below),
+        (True, y, below), (x, True, below), ("1", y, below), (x, "1", below), (None, y, below), (x, None, below),
+        (1.0, y, below), (x, 1.0, below), ([x], y, below), (x, [y], below), ((x,), y, below), ((x, y), below, 0),
+        kind[0], kind[0][:2] + (many - 1,), kind[-2], ({}, y, below), (x, {}, below),
+    ]
+    broken = [kind[:-1] + (part,) for part in parts]
+    broken += [(part,) + kind[1:] for part in (None, "000", [0, 0, 0], (0, 0), (False, 0, 0), (0, False, 0), kind[1])]
+    return broken

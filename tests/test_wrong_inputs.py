@@ -1,0 +1,169 @@
+"""Which error is raised first, with which value, of every function; nothing handed in is changed."""
+
+import copy
+import inspect
+import itertools
+import unittest
+
+from samples import BENDS, PEANO, ROWS, random_book, wrong_books
+from squarethreads import books, errors, threads
+
+# Of each function the arguments, in the sequence in which the sections list their errors.
+ARGUMENTS = {
+    books.begun_at: ("book", "kind"),
+    books.least: ("book",),
+    books.turned: ("book", "posture"),
+    books.backward: ("book",),
+    books.postures: ("book",),
+    threads.number_of: ("book", "d", "cell"),
+    threads.cell_of: ("book", "d", "number"),
+    threads.kinds_on: ("book", "d", "number"),
+    threads.thread: ("book", "d", "first", "many"),
+    threads.first_cell: ("book", "d"),
+    threads.last_cell: ("book", "d"),
+    threads.whole: ("book", "d"),
+}
+ERRORS = {
+    "book": errors.InvalidBook, "kind": errors.InvalidKind, "posture": errors.InvalidPosture,
+    "d": errors.InvalidDepth, "cell": errors.InvalidCell, "number": errors.InvalidNumber,
+    "first": errors.InvalidNumber, "many": errors.InvalidNumber,
+}
+RIGHT = {"kind": 0, "posture": (3, 1), "d": 2, "cell": (1, 2), "number": 7, "first": 3, "many": 2}
+NO_INTEGERS = [None, True, False, "", "0", "1", b"0", 0.0, 1.5, (), (0,), [], [0], {}, {0: 0}, {0}]
+NO_COUNTS = NO_INTEGERS + [-1, -2, -10 ** 40]
+
+
+def wrong_indexes(many):
+    """What is no integer from 0 on, below so many: also just too great and far too great."""
+    return NO_COUNTS + [many, many + 1, 2 * many + 5, 10 ** 60]
+
+
+def wrong_pairs(right, far):
+    """What is no pair of integers in the limits; right is a right one, far integers that none of it can be."""
+    x, y = right
+    pairs = [
+        None, True, False, 0, 1, -1, "", "00", b"00", 0.0, [], [x, y], (), (x,), (y,), (x, y, 0), (x, y, None),
+        ((x, y),), [(x, y)], {}, {x: y}, {0: 0, 1: 1}, {x, y}, ((x, y), (x, y)), (x, [y]), ([x], y), ((x,), (y,)),
+    ]
+    pairs += [(wrong, y) for wrong in NO_COUNTS + far]
+    pairs += [(x, wrong) for wrong in NO_COUNTS + far]
+    pairs += [(-1, far[0]), (far[0], far[-1]), (None, None), (True, True), (False, False)]
+    return pairs
+
+
+def wrong_postures():
+    pairs = wrong_pairs((1, 1), [4, 5, 10 ** 30])
+    return pairs + [(0, 2), (3, 2), (3, 3), (0, -1), (4, 0), (-1, 1), (0, True), (True, 0), ((0, 0), 0)]
+
+
+def wrongs(name, book, d):
+    """Wrong values of an argument, the others being right."""
+    size = book[0] ** d
+    if name == "book":
+        return wrong_books()
+    if name == "kind":
+        return wrong_indexes(len(book[1]))
+    if name == "posture":
+        return wrong_postures()
+    if name == "cell":
+        return wrong_pairs((size - 1, size - 1), [size, size + 1, 3 * size, 10 ** 60])
+    if name in ("number", "first"):
+        return wrong_indexes(size * size)
+    return NO_COUNTS
+
+
+class Errors(unittest.TestCase):
+    def assert_raises(self, function, names, values, expected):
+        """The error of the expected argument is raised, with its value, by position and by name."""
+        before = copy.deepcopy(values)
+        wrong = values[names.index(expected)]
+        for by_name in (False, True):
+            with self.assertRaises(errors.ThreadError, msg=f"{function.__name__} {values!r}") as held:
+                if by_name:
+                    function(**dict(zip(names, values)))
+                else:
+                    function(*values)
+            self.assertIs(type(held.exception), ERRORS[expected], f"{function.__name__} {values!r}")
+            self.assertIs(held.exception.value, wrong, f"{function.__name__} {values!r}")
+            self.assertEqual(repr(values), repr(before))
+
+    def test_names_of_the_arguments(self):
+        self.assertEqual(tuple(inspect.signature(books.is_book).parameters), ("told",))
+        for function, names in ARGUMENTS.items():
+            self.assertEqual(tuple(inspect.signature(function).parameters), names)
+
+    def test_right_ones_raise_nothing(self):
+        for function, names in ARGUMENTS.items():
+            for book in (ROWS, BENDS, PEANO, random_book(4, 3, 20)):
+                values = [dict(RIGHT, book=book)[name] for name in names]
+                before = copy.deepcopy(values)
+                self.assertEqual(function(*values), function(**dict(zip(names, values))))
+                self.assertEqual(values, before)
+
+    def test_one_wrong(self):
+        for function, names in ARGUMENTS.items():
+            for book, d in ((ROWS, 2), (BENDS, 3), (PEANO, 2)):
+                right = dict(RIGHT, book=book, d=d)
+                for name in names:
+                    for wrong in wrongs(name, book, d):
+                        values = [wrong if other == name else right[other] for other in names]
+                        self.assert_raises(function, names, values, name)
+
+    def test_several_wrong(self):
+        few = {
+            "book": [None, [2, ROWS[1]], (4, ROWS[1]), (2, ((ROWS[1][0][:3]),))], "kind": [-1, True, 99, None, [0]],
+            "posture": [(4, 0), [0, 0], (0, True), None], "d": [-1, True, None, "2", (2,)],
+            "cell": [(-1, 0), [0, 0], (0, 999), None, (0, False)], "number": [-1, 99999, True, None],
+            "first": [-2, 99999, True, None], "many": [-3, False, None, [1]],
+        }
+        for function, names in ARGUMENTS.items():
+            for which in itertools.product((False, True), repeat=len(names)):
+                if not any(which):
+                    continue
+                first = names[which.index(True)]
+                choices = [few[name] if wrong else [dict(RIGHT, book=BENDS)[name]]
+                           for name, wrong in zip(names, which)]
+                for values in itertools.product(*choices):
+                    self.assert_raises(function, names, list(values), first)
+
+    def test_at_the_edges_of_depths(self):
+        for book in (ROWS, PEANO, random_book(5, 2, 20)):
+            for d in (0, 1, 60):
+                size = book[0] ** d
+                names = ARGUMENTS[threads.number_of]
+                for cell in ((size, 0), (0, size), (size, size), (-1, 0), (0, -1), (size - 1, size), (size, size - 1)):
+                    self.assert_raises(threads.number_of, names, [book, d, cell], "cell")
+                for function in (threads.cell_of, threads.kinds_on):
+                    for number in (-1, size * size, size * size + 1):
+                        self.assert_raises(function, ("book", "d", "number"), [book, d, number], "number")
+                for first in (-1, size * size, size * size + 1):
+                    for many in (0, 1, -1):
+                        names = ARGUMENTS[threads.thread]
+                        self.assert_raises(threads.thread, names, [book, d, first, many], "first")
+                self.assert_raises(threads.thread, names, [book, d, size * size - 1, -1], "many")
+
+    def test_kinds_at_the_edges(self):
+        for many in (1, 2, 20):
+            book = random_book(6, 2, many)
+            for kind in (-many, -1, many, many + 1):
+                self.assert_raises(books.begun_at, ("book", "kind"), [book, kind], "kind")
+
+    def test_a_call_that_raises_changes_no_later_answer(self):
+        before = [threads.whole(BENDS, 2), books.postures(BENDS), books.least(BENDS)]
+        for wrong in wrong_books():
+            self.assertRaises(errors.InvalidBook, books.postures, wrong)
+        self.assertRaises(errors.InvalidNumber, threads.thread, BENDS, 2, 3, -1)
+        self.assertEqual([threads.whole(BENDS, 2), books.postures(BENDS), books.least(BENDS)], before)
+
+    def test_lists_that_are_wrong_stay_as_they_are(self):
+        told = [2, [[[0, 0, 0], [1, 0, 0], [0, 1, 0], [1, 1, 0]]]]
+        before = copy.deepcopy(told)
+        self.assertIs(books.is_book(told), False)
+        for function, names in ARGUMENTS.items():
+            values = [dict(RIGHT, book=told)[name] for name in names]
+            self.assert_raises(function, names, values, "book")
+        self.assertEqual(told, before)
+
+
+if __name__ == "__main__":
+    unittest.main()
