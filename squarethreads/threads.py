@@ -40,11 +40,15 @@ def number_of(book, d, cell):
     check_book(book)
     check_depth(d)
     check_cell(book, d, cell)
+    return number_in_kind(book, 0, d, cell)
+
+
+def number_in_kind(book, kind, d, cell):
+    """Return the number of what is known to be a cell of the depth, in the thread of a kind."""
     b, kinds = book
     rights = digits_of(cell[0], b, d)
     ups = digits_of(cell[1], b, d)
     number = 0
-    kind = 0
     for k in range(d):
         at = places_of(kinds[kind]).index((rights[k], ups[k]))
         number = number * b * b + at
@@ -57,15 +61,14 @@ def cell_of(book, d, number):
     check_book(book)
     check_depth(d)
     check_number(book, d, number)
-    return _cell_at(book, d, number)
+    return cell_in_kind(book, 0, d, number)
 
 
-def _cell_at(book, d, number):
-    """Return the cell of what is known to be a number of the depth."""
+def cell_in_kind(book, kind, d, number):
+    """Return the cell of what is known to be a number of the depth, in the thread of a kind."""
     b, kinds = book
     x = 0
     y = 0
-    kind = 0
     for digit in digits_of(number, b * b, d):
         right, up, kind = kinds[kind][digit]
         x = x * b + right
@@ -95,7 +98,7 @@ def thread(book, d, first, many):
     if not is_count(many):
         raise InvalidNumber(many)
     behind = min(first + many, how_many_cells(book, d))
-    return [_cell_at(book, d, number) for number in range(first, behind)]
+    return [cell_in_kind(book, 0, d, number) for number in range(first, behind)]
 
 
 def first_cell(book, d):
@@ -107,11 +110,11 @@ def last_cell(book, d):
     """Return the last cell of the thread of a depth."""
     check_book(book)
     check_depth(d)
-    return _cell_at(book, d, how_many_cells(book, d) - 1)
+    return cell_in_kind(book, 0, d, how_many_cells(book, d) - 1)
 
 
 def whole(book, d):
     """Return the list of all cells of the thread of a depth."""
     check_book(book)
     check_depth(d)
-    return [_cell_at(book, d, number) for number in range(how_many_cells(book, d))]
+    return [cell_in_kind(book, 0, d, number) for number in range(how_many_cells(book, d))]

@@ -107,6 +107,23 @@ def cell_in_words(book, d, number, kind=0):
     raise AssertionError("no number of the depth")
 
 
+def near(one, other):
+    """Whether two cells have a side in common."""
+    return other in [(one[0] + 1, one[1]), (one[0] - 1, one[1]), (one[0], one[1] + 1), (one[0], one[1] - 1)]
+
+
+def leaps_in_words(cells):
+    """Promise 5, word by word: the numbers from which leaps lead, of a list of all cells of a thread."""
+    return [number for number in range(len(cells) - 1) if not near(cells[number], cells[number + 1])]
+
+
+def field_cells_in_words(field, d):
+    """Promise 10, word by word: all cells of a field's thread at a depth."""
+    book, squares = field
+    size = book[0] ** d
+    return [(x * size + u, y * size + v) for x, y, kind in squares for u, v in cells_in_words(book, d, kind)]
+
+
 def quarter_turn(size, cell):
     """A cell of a square behind a quarter turn against the clock, by the cell's middle about the square's."""
     # All lengths are doubled: the middle of the square is then at whole numbers.
@@ -133,6 +150,31 @@ def same_at_depths(one, other, d):
     return same
 
 
+def copies(book, many, last=None):
+    """The same threads by so many copies of the kinds, each leading to the next one; the last one's may be others."""
+    b, kinds = book
+    made = []
+    for copy in range(many):
+        below = min(copy + 1, many - 1) * len(kinds)
+        parts_of_all = (last or book)[1] if copy == many - 1 else kinds
+        made += [tuple((x, y, kind + below) for x, y, kind in parts) for parts in parts_of_all]
+    return (b, tuple(made))
+
+
+def nearly_right_book(seed, book, many):
+    """Copies of a book with some parts that lead to other kinds of the same copy or the next one."""
+    chance = random.Random(f"nearly {seed} {many}")
+    b, kinds = copies(book, many)
+    size = len(book[1])
+    changed = [list(parts) for parts in kinds]
+    for _ in range(chance.randrange(1, 4)):
+        k = chance.randrange(len(changed))
+        at = chance.choice([0, len(changed[k]) - 1, chance.randrange(len(changed[k]))])
+        x, y, kind = changed[k][at]
+        changed[k][at] = (x, y, kind // size * size + chance.randrange(size))
+    return (b, tuple(tuple(parts) for parts in changed))
+
+
 def wrong_books():
     """What is no book, in many ways."""
     rows = ROWS[1][0]
@@ -155,6 +197,30 @@ def wrong_books():
     books += [(3, (snake, kind)) for kind in broken_kinds(snake, 3, 2)]
     books += [(3, (snake, rows)), (2, (rows, snake)), [3, [list(list(part) for part in snake)]]]
     return books
+
+
+def wrong_fields():
+    """What is no field, in many ways."""
+    squares = ((1, 0, 0), (0, 0, 3), (0, 1, 2))
+    fields = wrong_books() + [ROWS, BENDS, (BENDS,), (squares,), (BENDS, squares, 0), (BENDS, squares, None)]
+    fields += [[BENDS, squares], (squares, BENDS), {BENDS: squares}, (BENDS, BENDS), squares, (BENDS, squares, squares)]
+    fields += [(book, ((0, 0, 0),)) for book in wrong_books()]
+    fields += [(book, squares) for book in (ROWS, None, [2, BENDS[1]], (2, list(BENDS[1])), (3, BENDS[1]))]
+    fields += [(BENDS, told) for told in (
+        None, True, False, 0, 1, "", "000", b"000", (), [], {}, {0: 0}, list(squares), ((),), (None,), (0,), (0, 0, 0),
+        (True,), ("000",), [(0, 0, 0)], {(0, 0, 0)}, {(0, 0, 0): 1}, (squares,), squares + ((),), squares + (None,),
+    )]
+    x, y, kind = 2, 5, 1
+    parts = [
+        (x,), (x, y), (x, y, kind, 0), [x, y, kind], (x, y, 4), (x, y, -1), (x, y, 10 ** 30), (x, y, True),
+        (x, y, False), (x, y, None), (x, y, "1"), (x, y, 1.0), (x, y, (1,)), (x, y, [1]), (x, y, {}),
+        (-1, y, kind), (x, -1, kind), (-10 ** 30, y, kind), (True, y, kind), (x, False, kind), ("2", y, kind),
+        (x, "5", kind), (None, y, kind), (x, None, kind), (2.0, y, kind), (x, 5.0, kind), ([x], y, kind),
+        (x, [y], kind), ((x, y), kind, 0), (x, {}, kind), (1, 0, 0), (1, 0, 3), (0, 1, 1), (0, 0, 2),
+    ]
+    fields += [(BENDS, squares + (part,)) for part in parts] + [(BENDS, (part,) + squares) for part in parts]
+    fields += [(BENDS, (part,)) for part in parts[:-4]]
+    return fields
 
 
 def broken_kinds(kind, b, many):

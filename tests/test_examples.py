@@ -15,6 +15,27 @@ THREADS = """
 >>> [number_of(rows, 3, (5, 2)), cell_of(rows, 60, 3), whole(bends, 1), last_cell(bends, 5), kinds_on(bends, 2, 13)]
 [25, (1, 1), [(0, 0), (0, 1), (1, 1), (1, 0)], (31, 0), (0, 2, 2)]
 """
+PATHS = """
+>>> from squarethreads.paths import ends, first_leap, is_path, is_ring, leaps
+>>> [is_path(bends), first_leap(rows), is_ring(bends), leaps(rows, 2), ends(bends, 0)]
+[True, (1, 1), False, 7, ((0, 0), (1, 0))]
+"""
+GROWTH = """
+>>> from squarethreads.growth import rule, sum_at, sums
+>>> [sums(rows, 3), rule(rows), sum_at(rows, 3)]
+[[0, 6, 60, 504], ((0, 6), (10, -16)), 504]
+"""
+FIELDS = """
+>>> from squarethreads.fields import field_cell, field_number, first_leap_of, is_path_field, row_field
+>>> two = row_field(bends, 0, 2)
+>>> [field_number(two, 1, (2, 0)), field_cell(two, 1, 7), is_path_field(two), first_leap_of((bends, ((0, 0, 0), (0, 1, 0))))]
+[4, (3, 0), True, (1, 3)]
+"""
+DRAWINGS = """
+>>> from squarethreads.drawings import drawn, numbers_drawn
+>>> [drawn(bends, 1), numbers_drawn(rows, 1)]
+[['o-o', '| |', 'o o'], [[2, 3], [0, 1]]]
+"""
 
 
 class Examples(unittest.TestCase):
@@ -27,9 +48,10 @@ class Examples(unittest.TestCase):
         self.assertEqual(failed, 0, "".join(said))
         return test.globs
 
-    def test_books_then_threads(self):
+    def test_books_then_all_others(self):
         names = self.run_examples(BOOKS, {})
-        self.run_examples(THREADS, names)
+        for text in (THREADS, PATHS, GROWTH, FIELDS, DRAWINGS):
+            names = self.run_examples(text, names)
 
 
 if __name__ == "__main__":

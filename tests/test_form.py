@@ -15,6 +15,10 @@ INTERFACE = {
     ),
     "books": ("is_book", "begun_at", "least", "turned", "backward", "postures"),
     "threads": ("number_of", "cell_of", "kinds_on", "thread", "first_cell", "last_cell", "whole"),
+    "paths": ("is_path", "is_path_at", "first_leap", "is_ring", "leaps", "ends"),
+    "growth": ("sums", "rule", "sum_at"),
+    "fields": ("is_field", "field_number", "field_cell", "is_path_field", "first_leap_of", "row_field"),
+    "drawings": ("drawn", "numbers_drawn"),
 }
 LIBRARY = {"heapq", "math", "itertools", "collections"}
 

@@ -5,8 +5,8 @@ import inspect
 import itertools
 import unittest
 
-from samples import BENDS, PEANO, ROWS, random_book, wrong_books
-from squarethreads import books, errors, threads
+from samples import BENDS, PEANO, ROWS, random_book, wrong_books, wrong_fields
+from squarethreads import books, drawings, errors, fields, growth, paths, threads
 
 # Of each function the arguments, in the sequence in which the sections list their errors.
 ARGUMENTS = {
@@ -22,13 +22,32 @@ ARGUMENTS = {
     threads.first_cell: ("book", "d"),
     threads.last_cell: ("book", "d"),
     threads.whole: ("book", "d"),
+    paths.is_path: ("book",),
+    paths.is_path_at: ("book", "d"),
+    paths.first_leap: ("book",),
+    paths.is_ring: ("book",),
+    paths.leaps: ("book", "d"),
+    paths.ends: ("book", "kind"),
+    growth.sums: ("book", "n"),
+    growth.rule: ("book",),
+    growth.sum_at: ("book", "d"),
+    fields.field_number: ("field", "d", "cell"),
+    fields.field_cell: ("field", "d", "number"),
+    fields.is_path_field: ("field",),
+    fields.first_leap_of: ("field",),
+    fields.row_field: ("book", "kind", "many"),
+    drawings.drawn: ("book", "d"),
+    drawings.numbers_drawn: ("book", "d"),
 }
 ERRORS = {
     "book": errors.InvalidBook, "kind": errors.InvalidKind, "posture": errors.InvalidPosture,
     "d": errors.InvalidDepth, "cell": errors.InvalidCell, "number": errors.InvalidNumber,
-    "first": errors.InvalidNumber, "many": errors.InvalidNumber,
+    "first": errors.InvalidNumber, "many": errors.InvalidNumber, "n": errors.InvalidDepth, "field": errors.InvalidField,
 }
-RIGHT = {"kind": 0, "posture": (3, 1), "d": 2, "cell": (1, 2), "number": 7, "first": 3, "many": 2}
+RIGHT = {"kind": 0, "posture": (3, 1), "d": 2, "n": 2, "cell": (1, 2), "number": 7, "first": 3, "many": 2}
+GROWTH = (growth.sums, growth.rule, growth.sum_at)
+# The place (0, 0) among them, so that the right cell of a thread is one of the field, too.
+PLACES = ((1, 0), (0, 0), (0, 2), (1, 3))
 NO_INTEGERS = [None, True, False, "", "0", "1", b"0", 0.0, 1.5, (), (0,), [], [0], {}, {0: 0}, {0}]
 NO_COUNTS = NO_INTEGERS + [-1, -2, -10 ** 40]
 
@@ -56,11 +75,26 @@ def wrong_postures():
     return pairs + [(0, 2), (3, 2), (3, 3), (0, -1), (4, 0), (-1, 1), (0, True), (True, 0), ((0, 0), 0)]
 
 
-def wrongs(name, book, d):
-    """Wrong values of an argument, the others being right."""
+def right_values(book, d=2):
+    """Right values of all arguments, for a book and a depth."""
+    last = len(book[1]) - 1
+    return dict(RIGHT, book=book, d=d, field=(book, tuple((x, y, last) for x, y in PLACES)))
+
+
+def wrongs(function, name, book, d):
+    """Wrong values of an argument of a function, the others being right."""
     size = book[0] ** d
     if name == "book":
         return wrong_books()
+    if name == "field":
+        return wrong_fields()
+    if function == fields.field_number and name == "cell":
+        return wrong_pairs((size, 0), [5 * size, 10 ** 60]) + [
+            (0, 3 * size), (size, size), (0, 2 * size - 1), (2 * size, 0), (2 * size - 1, size), (size, 4 * size)]
+    if function == fields.field_cell and name == "number":
+        return wrong_indexes(len(PLACES) * size * size)
+    if function == fields.row_field and name == "many":
+        return NO_COUNTS + [0]
     if name == "kind":
         return wrong_indexes(len(book[1]))
     if name == "posture":
@@ -88,14 +122,16 @@ class Errors(unittest.TestCase):
             self.assertEqual(repr(values), repr(before))
 
     def test_names_of_the_arguments(self):
-        self.assertEqual(tuple(inspect.signature(books.is_book).parameters), ("told",))
+        for function in (books.is_book, fields.is_field):
+            self.assertEqual(tuple(inspect.signature(function).parameters), ("told",))
         for function, names in ARGUMENTS.items():
             self.assertEqual(tuple(inspect.signature(function).parameters), names)
 
     def test_right_ones_raise_nothing(self):
         for function, names in ARGUMENTS.items():
-            for book in (ROWS, BENDS, PEANO, random_book(4, 3, 20)):
-                values = [dict(RIGHT, book=book)[name] for name in names]
+            # Gap sums are for books of few kinds.
+            for book in (ROWS, BENDS, PEANO, random_book(4, 3, 4 if function in GROWTH else 20)):
+                values = [right_values(book)[name] for name in names]
                 before = copy.deepcopy(values)
                 self.assertEqual(function(*values), function(**dict(zip(names, values))))
                 self.assertEqual(values, before)
@@ -103,9 +139,12 @@ class Errors(unittest.TestCase):
     def test_one_wrong(self):
         for function, names in ARGUMENTS.items():
             for book, d in ((ROWS, 2), (BENDS, 3), (PEANO, 2)):
-                right = dict(RIGHT, book=book, d=d)
+                right = right_values(book, d)
                 for name in names:
-                    for wrong in wrongs(name, book, d):
+                    if name in ("book", "field") and book != ROWS:
+                        # What is no book and no field is so whatever the others are.
+                        continue
+                    for wrong in wrongs(function, name, book, d):
                         values = [wrong if other == name else right[other] for other in names]
                         self.assert_raises(function, names, values, name)
 
@@ -114,15 +153,15 @@ class Errors(unittest.TestCase):
             "book": [None, [2, ROWS[1]], (4, ROWS[1]), (2, ((ROWS[1][0][:3]),))], "kind": [-1, True, 99, None, [0]],
             "posture": [(4, 0), [0, 0], (0, True), None], "d": [-1, True, None, "2", (2,)],
             "cell": [(-1, 0), [0, 0], (0, 999), None, (0, False)], "number": [-1, 99999, True, None],
-            "first": [-2, 99999, True, None], "many": [-3, False, None, [1]],
+            "first": [-2, 99999, True, None], "many": [-3, False, None, [1]], "n": [-1, False, None, [2]],
+            "field": [None, BENDS, [BENDS, ((0, 0, 0),)], (BENDS, ()), (BENDS, ((0, 0, 4),)), (BENDS, [(0, 0, 0)])],
         }
         for function, names in ARGUMENTS.items():
             for which in itertools.product((False, True), repeat=len(names)):
                 if not any(which):
                     continue
                 first = names[which.index(True)]
-                choices = [few[name] if wrong else [dict(RIGHT, book=BENDS)[name]]
-                           for name, wrong in zip(names, which)]
+                choices = [few[name] if wrong else [right_values(BENDS)[name]] for name, wrong in zip(names, which)]
                 for values in itertools.product(*choices):
                     self.assert_raises(function, names, list(values), first)
 
@@ -142,26 +181,57 @@ class Errors(unittest.TestCase):
                         self.assert_raises(threads.thread, names, [book, d, first, many], "first")
                 self.assert_raises(threads.thread, names, [book, d, size * size - 1, -1], "many")
 
+    def test_fields_at_the_edges_of_depths(self):
+        for book in (ROWS, PEANO, random_book(5, 2, 20)):
+            for d in (0, 1, 60):
+                size = book[0] ** d
+                field = right_values(book)["field"]
+                names = ARGUMENTS[fields.field_number]
+                for cell in ((2 * size, 0), (0, size), (size, size), (-1, 0), (0, -1), (0, 3 * size),
+                             (size, 2 * size), (2 * size - 1, size), (size, 4 * size)):
+                    self.assert_raises(fields.field_number, names, [field, d, cell], "cell")
+                for number in (-1, 4 * size * size, 4 * size * size + 1):
+                    self.assert_raises(fields.field_cell, ARGUMENTS[fields.field_cell], [field, d, number], "number")
+
+    def test_negative_depths_and_none_but_integers(self):
+        for function, names in ARGUMENTS.items():
+            for name in ("d", "n"):
+                if name in names:
+                    for wrong in NO_COUNTS:
+                        values = [dict(right_values(BENDS), **{name: wrong})[other] for other in names]
+                        self.assert_raises(function, names, values, name)
+
     def test_kinds_at_the_edges(self):
         for many in (1, 2, 20):
             book = random_book(6, 2, many)
             for kind in (-many, -1, many, many + 1):
                 self.assert_raises(books.begun_at, ("book", "kind"), [book, kind], "kind")
+                self.assert_raises(paths.ends, ("book", "kind"), [book, kind], "kind")
+                for number in (1, 0):
+                    self.assert_raises(fields.row_field, ("book", "kind", "many"), [book, kind, number], "kind")
 
     def test_a_call_that_raises_changes_no_later_answer(self):
-        before = [threads.whole(BENDS, 2), books.postures(BENDS), books.least(BENDS)]
+        def answers():
+            two = fields.row_field(BENDS, 1, 2)
+            return [threads.whole(BENDS, 2), books.postures(BENDS), books.least(BENDS), growth.sums(BENDS, 5),
+                    paths.first_leap(BENDS), drawings.drawn(BENDS, 2), two, fields.first_leap_of(two)]
+
+        before = answers()
         for wrong in wrong_books():
-            self.assertRaises(errors.InvalidBook, books.postures, wrong)
+            for function in (books.postures, growth.rule, paths.first_leap, paths.is_ring):
+                self.assertRaises(errors.InvalidBook, function, wrong)
         self.assertRaises(errors.InvalidNumber, threads.thread, BENDS, 2, 3, -1)
-        self.assertEqual([threads.whole(BENDS, 2), books.postures(BENDS), books.least(BENDS)], before)
+        self.assertRaises(errors.InvalidDepth, growth.sums, BENDS, -1)
+        self.assertRaises(errors.InvalidField, fields.first_leap_of, (BENDS, ()))
+        self.assertEqual(answers(), before)
 
     def test_lists_that_are_wrong_stay_as_they_are(self):
         told = [2, [[[0, 0, 0], [1, 0, 0], [0, 1, 0], [1, 1, 0]]]]
         before = copy.deepcopy(told)
         self.assertIs(books.is_book(told), False)
         for function, names in ARGUMENTS.items():
-            values = [dict(RIGHT, book=told)[name] for name in names]
-            self.assert_raises(function, names, values, "book")
+            values = [dict(RIGHT, book=told, field=(told, ((0, 0, 0),)))[name] for name in names]
+            self.assert_raises(function, names, values, names[0])
         self.assertEqual(told, before)
 
 
