@@ -65,6 +65,13 @@ def check_posture(posture):
         raise InvalidPosture(posture)
 
 
+def is_turn(told):
+    """Tell whether something, whatever it is, is (way, mirror, back): a posture, and back 0 or 1."""
+    if not isinstance(told, tuple) or len(told) != 3:
+        return False
+    return is_posture(told[:2]) and is_index(told[2], 2)
+
+
 def begun_at(book, kind):
     """Return the book with a kind first and all that it leads to, numbered breadth first."""
     check_book(book)
@@ -97,22 +104,25 @@ def least(book):
     """Return the book begun at kind 0 in which kinds with the same threads are one."""
     check_book(book)
     b, kinds = book
-    classes = _classes_of(kinds)
+    classes = classes_by_depth(kinds)[-1]
     firsts = [classes.index(number) for number in classes]
     merged = tuple([_renamed(parts, firsts) for parts in kinds])
     return (b, _numbered_from(merged, 0))
 
 
-def _classes_of(kinds):
-    """Return for each kind the number of its class, of all with the same threads at all depths."""
-    classes = [0] * len(kinds)
-    finer = _split(kinds, classes)
+def classes_by_depth(kinds):
+    """Return for each depth, from 0 to that from which on nothing changes, the number of each kind's class.
+
+    A class is of all kinds with the same thread at the depth; they are numbered as they are met.
+    """
+    rows = [[0] * len(kinds)]
+    finer = _split(kinds, rows[0])
     # Classes that are the same down to one more depth only ever split further,
     # so once their number stays the same they stay the same at all depths.
-    while max(finer) > max(classes):
-        classes = finer
-        finer = _split(kinds, classes)
-    return classes
+    while max(finer) > max(rows[-1]):
+        rows.append(finer)
+        finer = _split(kinds, finer)
+    return rows
 
 
 def _split(kinds, classes):
@@ -163,14 +173,19 @@ def backward(book):
 def postures(book):
     """Return the ascending list of the postures, gone either way, that leave the thread as it is."""
     check_book(book)
+    return ways_between(book, book)
+
+
+def ways_between(one, other):
+    """Return the ascending list of ((way, mirror), back) that make the one's thread the other's; both have one b."""
     found = []
     for way in range(4):
         for mirror in range(2):
             posture = (way, mirror)
-            other = turned(book, posture)
-            if have_same_thread(book, other):
+            moved = turned(one, posture)
+            if have_same_thread(moved, other):
                 found.append((posture, 0))
-            if have_same_thread(book, backward(other)):
+            if have_same_thread(backward(moved), other):
                 found.append((posture, 1))
     return found
 

@@ -4,7 +4,7 @@ from squarethreads.books import check_book, check_kind, is_book, places_of
 from squarethreads.errors import InvalidCell, InvalidField, InvalidNumber
 from squarethreads.integers import is_count, is_index, power
 from squarethreads.paths import first_leap_through
-from squarethreads.threads import cell_in_kind, check_depth, how_many_cells, number_in_kind
+from squarethreads.threads import cell_in_kind, check_depth, check_from_one, how_many_cells, number_in_kind
 
 
 def is_field(told):
@@ -100,6 +100,5 @@ def row_field(book, kind, many):
     """Return the field of the book and so many squares of a kind, from the place (0, 0) to the right."""
     check_book(book)
     check_kind(book, kind)
-    if not is_count(many) or many == 0:
-        raise InvalidNumber(many)
+    check_from_one(many)
     return (book, tuple([(x, 0, kind) for x in range(many)]))

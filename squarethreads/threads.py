@@ -13,11 +13,11 @@ def check_depth(d):
 
 def check_cell(book, d, cell):
     """Raise InvalidCell unless it is a cell of the depth."""
-    if not _is_cell(power(book[0], d), cell):
+    if not is_cell(power(book[0], d), cell):
         raise InvalidCell(cell)
 
 
-def _is_cell(size, told):
+def is_cell(size, told):
     """Tell whether something is a cell of a square of so many cells each way."""
     if not isinstance(told, tuple) or len(told) != 2:
         return False
@@ -27,6 +27,12 @@ def _is_cell(size, told):
 def check_number(book, d, number):
     """Raise InvalidNumber unless it is a number of the depth."""
     if not is_index(number, how_many_cells(book, d)):
+        raise InvalidNumber(number)
+
+
+def check_from_one(number):
+    """Raise InvalidNumber unless it is an integer from 1 on."""
+    if not is_count(number) or number == 0:
         raise InvalidNumber(number)
 
 

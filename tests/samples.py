@@ -238,3 +238,63 @@ def broken_kinds(kind, b, many):
     broken = [kind[:-1] + (part,) for part in parts]
     broken += [(part,) + kind[1:] for part in (None, "000", [0, 0, 0], (0, 0), (False, 0, 0), (0, False, 0), kind[1])]
     return broken
+
+
+def numbers_in_words(book, d):
+    """The number of each cell of a depth."""
+    return {cell: number for number, cell in enumerate(cells_in_words(book, d))}
+
+
+def cells_of_box(box):
+    """Promise 6, word by word: the cells with x from left on, below right, y from low on, below high."""
+    left, low, right, high = box
+    return [(x, y) for x in range(left, right) for y in range(low, high)]
+
+
+def all_boxes(size):
+    """All boxes within a square of so many cells each way."""
+    pairs = [(first, behind) for behind in range(size + 1) for first in range(behind)]
+    return [(left, low, right, high) for left, right in pairs for low, high in pairs]
+
+
+def some_boxes(seed, size, many):
+    """The whole square, its sides, a corner, and so many boxes more, the same ones for the same seed."""
+    chance = random.Random(f"boxes {seed} {size}")
+    boxes = [(0, 0, size, size), (0, 0, size, 1), (0, 0, 1, size), (size - 1, 0, size, size),
+             (0, size - 1, size, size), (size - 1, size - 1, size, size), (0, 0, 1, 1)]
+    for _ in range(many):
+        left, low = chance.randrange(size), chance.randrange(size)
+        boxes.append((left, low, chance.randrange(left, size) + 1, chance.randrange(low, size) + 1))
+    return boxes
+
+
+def spans_of(numbers):
+    """The fewest spans of some numbers: one begins where the number before is none of them."""
+    held = set(numbers)
+    firsts = sorted(number for number in held if number - 1 not in held)
+    behinds = sorted(number + 1 for number in held if number + 1 not in held)
+    return tuple(zip(firsts, behinds))
+
+
+def wrong_boxes(size):
+    """What is no box within a square of so many cells each way, two or more, in many ways."""
+    boxes = [
+        None, True, False, 0, -1, 4, "", "0011", b"0011", 0.0, (), (0,), (0, 0), (0, 0, 1), (0, 0, 1, 1, 1),
+        (0, 0, size), (0, 0, size, size, None), [0, 0, 1, 1], [], {}, {0: 0, 1: 1}, {0, 1}, ((0, 0), (1, 1)),
+        ((0, 0, 1, 1),), (None,) * 4, (True,) * 4, (False, False, True, True), ("0", "0", "1", "1"),
+        # Empty ones.
+        (0, 0, 0, 0), (0, 0, 0, 1), (0, 0, 1, 0), (1, 1, 1, 2), (1, 1, 2, 1), (size, 0, size, 1), (0, size, 1, size),
+        (size, size, size, size), (0, 0, 0, size), (0, 0, size, 0),
+        # Turned round.
+        (1, 0, 0, 1), (0, 1, 1, 0), (1, 1, 0, 0), (size, 0, 0, size), (0, size, size, 0), (2, 0, 1, 2), (0, 2, 2, 1),
+        # Beyond the depth.
+        (0, 0, size + 1, 1), (0, 0, 1, size + 1), (0, 0, size + 1, size + 1), (size, 0, size + 1, 1),
+        (0, size, 1, size + 1), (size, size, size + 1, size + 1), (size + 1, 0, size + 2, 1), (0, 0, 10 ** 60, 1),
+        (0, 0, 1, 10 ** 60), (-1, 0, 1, 1), (0, -1, 1, 1), (-1, -1, 1, 1), (-2, 0, -1, 1), (0, -2, 1, -1),
+        (-10 ** 30, 0, 1, 1), (-size, -size, 0, 0), (-1, 0, size, size), (0, -1, size, size),
+    ]
+    right = (0, 0, size, size)
+    for at in range(4):
+        for wrong in (None, True, False, "0", "1", "", b"1", 0.0, 1.0, (), (1,), [], [1], {}, -1):
+            boxes.append(right[:at] + (wrong,) + right[at + 1:])
+    return boxes

@@ -4,11 +4,16 @@ import time
 import unittest
 
 from samples import ALL_POSTURES, BENDS, PEANO, chain, copies, large_books, one_sequence_book, random_book
+from squarethreads.alikes import alike_in, same_kinds, unlike
 from squarethreads.books import backward, begun_at, is_book, least, postures, turned
 from squarethreads.drawings import drawn, numbers_drawn
 from squarethreads.fields import field_cell, field_number, first_leap_of, is_field, is_path_field, row_field
+from squarethreads.gaps import gap, gap_sum, greatest_gap, widest
 from squarethreads.growth import rule, sum_at, sums
 from squarethreads.paths import ends, first_leap, is_path, is_path_at, is_ring, leaps
+from squarethreads.readers import read_book, read_field, read_spans
+from squarethreads.spans import at_most, cells_in, how_many, last_in, next_in, spans
+from squarethreads.texts import show_book, show_field, show_spans
 from squarethreads.threads import cell_of, first_cell, kinds_on, last_cell, number_of, thread, whole
 
 # A call takes some thousandths of a second; this leaves much room for a slow machine.
@@ -74,6 +79,45 @@ class Bounds(unittest.TestCase):
         for book in self.books:
             self.assertEqual(len(self.quickly(drawn, book, 4)), 2 * book[0] ** 4 - 1)
             self.assertEqual(len(self.quickly(numbers_drawn, book, 4)), book[0] ** 4)
+
+    def test_spans(self):
+        for book in self.books:
+            size = book[0] ** 6
+            found = self.quickly(spans, book, 6, (1, 1, size - 1, size - 1))
+            for most in (1, 40, len(found)):
+                self.assertLessEqual(len(self.quickly(at_most, book, 6, (1, 1, size - 1, size - 1), most)), most)
+            size = book[0] ** 60
+            for box in ((1, 1, size - 1, size - 1), (size // 3, size // 5, size // 3 + 1, size // 2), (5, 7, 6, 8)):
+                many = self.quickly(how_many, book, 60, box)
+                self.assertTrue(0 < many <= self.quickly(cells_in, book, 60, box))
+                for number in (0, size * size // 2, size * size - 1):
+                    self.quickly(next_in, book, 60, box, number)
+                    self.quickly(last_in, book, 60, box, number)
+
+    def test_gaps(self):
+        for book in self.books:
+            size = book[0] ** 60
+            greatest = self.quickly(greatest_gap, book, 60)
+            self.assertLessEqual(self.quickly(gap, book, 60, (size // 2, 3), (size // 2 + 1, 3)), greatest)
+            self.assertGreater(self.quickly(gap_sum, book, 60), greatest)
+            self.quickly(widest, book, 4)
+
+    def test_alikes(self):
+        for book in self.books:
+            for other in self.books:
+                if book[0] == other[0]:
+                    self.assertIs(self.quickly(unlike, book, other) is None, least(book) == least(other))
+                    self.quickly(alike_in, book, other)
+            self.quickly(same_kinds, book)
+
+    def test_texts(self):
+        for book in self.books:
+            self.assertEqual(self.quickly(read_book, self.quickly(show_book, book)), book)
+            field = (book, tuple((k, 10 ** 40 - 1, k) for k in range(20)))
+            self.assertEqual(self.quickly(read_field, self.quickly(show_field, field)), field)
+            size = book[0] ** 6
+            found = spans(book, 6, (1, 1, size - 1, size - 1))
+            self.assertEqual(self.quickly(read_spans, self.quickly(show_spans, found)), found)
 
     def test_growth(self):
         for b in (2, 3):

@@ -36,6 +36,26 @@ DRAWINGS = """
 >>> [drawn(bends, 1), numbers_drawn(rows, 1)]
 [['o-o', '| |', 'o o'], [[2, 3], [0, 1]]]
 """
+SPANS = """
+>>> from squarethreads.spans import at_most, how_many, last_in, next_in, spans
+>>> [spans(rows, 2, (0, 0, 3, 2)), how_many(rows, 2, (1, 1, 3, 3)), next_in(rows, 2, (1, 1, 3, 3), 4), at_most(rows, 2, (1, 1, 3, 3), 2)]
+[((0, 5), (6, 7)), 4, 6, ((3, 4), (6, 13))]
+"""
+GAPS = """
+>>> from squarethreads.gaps import gap, gap_sum, greatest_gap, widest
+>>> [gap(rows, 2, (1, 1), (2, 1)), greatest_gap(rows, 1), greatest_gap(rows, 2), widest(rows, 1), gap_sum(rows, 1)]
+[3, 2, 6, ((0, 0), (0, 1)), 6]
+"""
+ALIKES = """
+>>> from squarethreads.alikes import alike_in, same_kinds, unlike
+>>> [unlike(rows, bends), unlike(rows, rows), same_kinds(bends)]
+[(1, 1), None, ((0,), (1,), (2,), (3,))]
+"""
+TEXTS = """
+>>> from squarethreads.texts import show_book, show_field, show_spans
+>>> [show_book(rows), show_spans(((0, 5), (6, 7))), show_field((rows, ((1, 0, 0),)))]
+['book 2\\n0 0 0, 1 0 0, 0 1 0, 1 1 0', '0-5 6-7', 'field 1 0 0\\nbook 2\\n0 0 0, 1 0 0, 0 1 0, 1 1 0']
+"""
 
 
 class Examples(unittest.TestCase):
@@ -50,7 +70,7 @@ class Examples(unittest.TestCase):
 
     def test_books_then_all_others(self):
         names = self.run_examples(BOOKS, {})
-        for text in (THREADS, PATHS, GROWTH, FIELDS, DRAWINGS):
+        for text in (THREADS, PATHS, SPANS, GAPS, ALIKES, GROWTH, FIELDS, DRAWINGS, TEXTS):
             names = self.run_examples(text, names)
 
 

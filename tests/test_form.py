@@ -19,6 +19,11 @@ INTERFACE = {
     "growth": ("sums", "rule", "sum_at"),
     "fields": ("is_field", "field_number", "field_cell", "is_path_field", "first_leap_of", "row_field"),
     "drawings": ("drawn", "numbers_drawn"),
+    "spans": ("spans", "how_many", "cells_in", "next_in", "last_in", "at_most"),
+    "gaps": ("gap", "greatest_gap", "widest", "gap_sum"),
+    "alikes": ("unlike", "alike_in", "same_kinds"),
+    "texts": ("show_book", "show_cell", "show_box", "show_spans", "show_field", "show_make"),
+    "readers": ("read_book", "read_cell", "read_box", "read_spans", "read_field", "read_make"),
 }
 LIBRARY = {"heapq", "math", "itertools", "collections"}
 

@@ -5,8 +5,8 @@ import inspect
 import itertools
 import unittest
 
-from samples import BENDS, PEANO, ROWS, random_book, wrong_books, wrong_fields
-from squarethreads import books, drawings, errors, fields, growth, paths, threads
+from samples import BENDS, PEANO, ROWS, random_book, wrong_books, wrong_boxes, wrong_fields
+from squarethreads import alikes, books, drawings, errors, fields, gaps, growth, paths, spans, threads
 
 # Of each function the arguments, in the sequence in which the sections list their errors.
 ARGUMENTS = {
@@ -38,18 +38,49 @@ ARGUMENTS = {
     fields.row_field: ("book", "kind", "many"),
     drawings.drawn: ("book", "d"),
     drawings.numbers_drawn: ("book", "d"),
+    spans.spans: ("book", "d", "box"),
+    spans.how_many: ("book", "d", "box"),
+    spans.cells_in: ("book", "d", "box"),
+    spans.next_in: ("book", "d", "box", "number"),
+    spans.last_in: ("book", "d", "box", "number"),
+    spans.at_most: ("book", "d", "box", "most"),
+    gaps.gap: ("book", "d", "one", "other"),
+    gaps.greatest_gap: ("book", "d"),
+    gaps.widest: ("book", "d"),
+    gaps.gap_sum: ("book", "d"),
+    alikes.unlike: ("one", "other"),
+    alikes.alike_in: ("one", "other"),
+    alikes.same_kinds: ("book",),
+}
+# What sort an argument is of, where its name does not tell it.
+SORTS = {
+    (gaps.gap, "one"): "cell", (gaps.gap, "other"): "cell",
+    (gaps.greatest_gap, "d"): "deep", (gaps.widest, "d"): "deep", (fields.row_field, "many"): "most",
+    (alikes.unlike, "one"): "book", (alikes.unlike, "other"): "book",
+    (alikes.alike_in, "one"): "book", (alikes.alike_in, "other"): "book",
+    (fields.field_number, "cell"): "field's cell", (fields.field_cell, "number"): "field's number",
 }
 ERRORS = {
     "book": errors.InvalidBook, "kind": errors.InvalidKind, "posture": errors.InvalidPosture,
     "d": errors.InvalidDepth, "cell": errors.InvalidCell, "number": errors.InvalidNumber,
     "first": errors.InvalidNumber, "many": errors.InvalidNumber, "n": errors.InvalidDepth, "field": errors.InvalidField,
+    "box": errors.InvalidBox, "most": errors.InvalidNumber, "deep": errors.InvalidDepth,
+    "field's cell": errors.InvalidCell, "field's number": errors.InvalidNumber,
 }
-RIGHT = {"kind": 0, "posture": (3, 1), "d": 2, "n": 2, "cell": (1, 2), "number": 7, "first": 3, "many": 2}
+RIGHT = {
+    "kind": 0, "posture": (3, 1), "d": 2, "n": 2, "cell": (1, 2), "number": 7, "first": 3, "many": 2, "deep": 2,
+    "box": (1, 0, 3, 2), "most": 2, "field's cell": (1, 2), "field's number": 7,
+}
 GROWTH = (growth.sums, growth.rule, growth.sum_at)
 # The place (0, 0) among them, so that the right cell of a thread is one of the field, too.
 PLACES = ((1, 0), (0, 0), (0, 2), (1, 3))
 NO_INTEGERS = [None, True, False, "", "0", "1", b"0", 0.0, 1.5, (), (0,), [], [0], {}, {0: 0}, {0}]
 NO_COUNTS = NO_INTEGERS + [-1, -2, -10 ** 40]
+
+
+def sort_of(function, name):
+    """What sort an argument of a function is of."""
+    return SORTS.get((function, name), name)
 
 
 def wrong_indexes(many):
@@ -75,33 +106,36 @@ def wrong_postures():
     return pairs + [(0, 2), (3, 2), (3, 3), (0, -1), (4, 0), (-1, 1), (0, True), (True, 0), ((0, 0), 0)]
 
 
-def right_values(book, d=2):
-    """Right values of all arguments, for a book and a depth."""
+def right_values(function, book, d=2):
+    """Right values of all arguments of a function, for a book and a depth."""
     last = len(book[1]) - 1
-    return dict(RIGHT, book=book, d=d, field=(book, tuple((x, y, last) for x, y in PLACES)))
+    of_sorts = dict(RIGHT, book=book, d=d, deep=d, field=(book, tuple((x, y, last) for x, y in PLACES)))
+    return {name: of_sorts[sort_of(function, name)] for name in ARGUMENTS[function]}
 
 
-def wrongs(function, name, book, d):
-    """Wrong values of an argument of a function, the others being right."""
+def wrongs(sort, book, d):
+    """Wrong values of a sort, for a book and a depth."""
     size = book[0] ** d
-    if name == "book":
+    if sort == "book":
         return wrong_books()
-    if name == "field":
+    if sort == "field":
         return wrong_fields()
-    if function == fields.field_number and name == "cell":
+    if sort == "box":
+        return wrong_boxes(size)
+    if sort == "field's cell":
         return wrong_pairs((size, 0), [5 * size, 10 ** 60]) + [
             (0, 3 * size), (size, size), (0, 2 * size - 1), (2 * size, 0), (2 * size - 1, size), (size, 4 * size)]
-    if function == fields.field_cell and name == "number":
+    if sort == "field's number":
         return wrong_indexes(len(PLACES) * size * size)
-    if function == fields.row_field and name == "many":
+    if sort in ("most", "deep"):
         return NO_COUNTS + [0]
-    if name == "kind":
+    if sort == "kind":
         return wrong_indexes(len(book[1]))
-    if name == "posture":
+    if sort == "posture":
         return wrong_postures()
-    if name == "cell":
+    if sort == "cell":
         return wrong_pairs((size - 1, size - 1), [size, size + 1, 3 * size, 10 ** 60])
-    if name in ("number", "first"):
+    if sort in ("number", "first"):
         return wrong_indexes(size * size)
     return NO_COUNTS
 
@@ -117,7 +151,8 @@ class Errors(unittest.TestCase):
                     function(**dict(zip(names, values)))
                 else:
                     function(*values)
-            self.assertIs(type(held.exception), ERRORS[expected], f"{function.__name__} {values!r}")
+            error = ERRORS[sort_of(function, expected)]
+            self.assertIs(type(held.exception), error, f"{function.__name__} {values!r}")
             self.assertIs(held.exception.value, wrong, f"{function.__name__} {values!r}")
             self.assertEqual(repr(values), repr(before))
 
@@ -131,7 +166,8 @@ class Errors(unittest.TestCase):
         for function, names in ARGUMENTS.items():
             # Gap sums are for books of few kinds.
             for book in (ROWS, BENDS, PEANO, random_book(4, 3, 4 if function in GROWTH else 20)):
-                values = [right_values(book)[name] for name in names]
+                right = right_values(function, book)
+                values = [right[name] for name in names]
                 before = copy.deepcopy(values)
                 self.assertEqual(function(*values), function(**dict(zip(names, values))))
                 self.assertEqual(values, before)
@@ -139,12 +175,13 @@ class Errors(unittest.TestCase):
     def test_one_wrong(self):
         for function, names in ARGUMENTS.items():
             for book, d in ((ROWS, 2), (BENDS, 3), (PEANO, 2)):
-                right = right_values(book, d)
+                right = right_values(function, book, d)
                 for name in names:
-                    if name in ("book", "field") and book != ROWS:
+                    sort = sort_of(function, name)
+                    if sort in ("book", "field") and book != ROWS:
                         # What is no book and no field is so whatever the others are.
                         continue
-                    for wrong in wrongs(function, name, book, d):
+                    for wrong in wrongs(sort, book, d):
                         values = [wrong if other == name else right[other] for other in names]
                         self.assert_raises(function, names, values, name)
 
@@ -155,13 +192,17 @@ class Errors(unittest.TestCase):
             "cell": [(-1, 0), [0, 0], (0, 999), None, (0, False)], "number": [-1, 99999, True, None],
             "first": [-2, 99999, True, None], "many": [-3, False, None, [1]], "n": [-1, False, None, [2]],
             "field": [None, BENDS, [BENDS, ((0, 0, 0),)], (BENDS, ()), (BENDS, ((0, 0, 4),)), (BENDS, [(0, 0, 0)])],
+            "box": [(0, 0, 0, 1), (0, 0, 5, 1), [0, 0, 1, 1], (1, 0, 0, 1), None], "most": [0, -1, True, None],
+            "deep": [0, -1, True, None],
         }
+        few["field's cell"], few["field's number"] = few["cell"], few["number"]
         for function, names in ARGUMENTS.items():
+            right = right_values(function, BENDS)
             for which in itertools.product((False, True), repeat=len(names)):
                 if not any(which):
                     continue
                 first = names[which.index(True)]
-                choices = [few[name] if wrong else [right_values(BENDS)[name]] for name, wrong in zip(names, which)]
+                choices = [few[sort_of(function, name)] if wrong else [right[name]] for name, wrong in zip(names, which)]
                 for values in itertools.product(*choices):
                     self.assert_raises(function, names, list(values), first)
 
@@ -185,7 +226,7 @@ class Errors(unittest.TestCase):
         for book in (ROWS, PEANO, random_book(5, 2, 20)):
             for d in (0, 1, 60):
                 size = book[0] ** d
-                field = right_values(book)["field"]
+                field = right_values(fields.field_cell, book)["field"]
                 names = ARGUMENTS[fields.field_number]
                 for cell in ((2 * size, 0), (0, size), (size, size), (-1, 0), (0, -1), (0, 3 * size),
                              (size, 2 * size), (2 * size - 1, size), (size, 4 * size)):
@@ -198,8 +239,33 @@ class Errors(unittest.TestCase):
             for name in ("d", "n"):
                 if name in names:
                     for wrong in NO_COUNTS:
-                        values = [dict(right_values(BENDS), **{name: wrong})[other] for other in names]
+                        values = [dict(right_values(function, BENDS), **{name: wrong})[other] for other in names]
                         self.assert_raises(function, names, values, name)
+        for function in (gaps.greatest_gap, gaps.widest):
+            self.assert_raises(function, ("book", "d"), [BENDS, 0], "d")
+
+    def test_boxes_at_the_edges_of_depths(self):
+        for book in (ROWS, PEANO, random_book(5, 2, 20)):
+            for d in (0, 1, 60):
+                size = book[0] ** d
+                for function in (spans.spans, spans.how_many, spans.cells_in, spans.next_in, spans.last_in,
+                                 spans.at_most):
+                    names = ARGUMENTS[function]
+                    for box in ((0, 0, size + 1, size), (0, 0, size, size + 1), (-1, 0, size, size), (0, 0, 0, 1),
+                                (0, -1, size, size), (size, 0, size, 1), (0, size, 1, size), (size, 0, size + 1, 1)):
+                        # The box comes before the number, be that right or wrong.
+                        for number in (1, -1):
+                            values = [book, d, box, number][:len(names)]
+                            self.assert_raises(function, names, values, "box")
+                box = (0, 0, size, size)
+                for function in (spans.next_in, spans.last_in):
+                    for number in (-1, size * size, size * size + 1):
+                        self.assert_raises(function, ARGUMENTS[function], [book, d, box, number], "number")
+                names = ARGUMENTS[gaps.gap]
+                for cell in ((size, 0), (0, size), (-1, 0), (0, -1)):
+                    self.assert_raises(gaps.gap, names, [book, d, cell, (0, 0)], "one")
+                    self.assert_raises(gaps.gap, names, [book, d, (0, 0), cell], "other")
+                    self.assert_raises(gaps.gap, names, [book, d, cell, (-1, -1)], "one")
 
     def test_kinds_at_the_edges(self):
         for many in (1, 2, 20):
@@ -214,7 +280,8 @@ class Errors(unittest.TestCase):
         def answers():
             two = fields.row_field(BENDS, 1, 2)
             return [threads.whole(BENDS, 2), books.postures(BENDS), books.least(BENDS), growth.sums(BENDS, 5),
-                    paths.first_leap(BENDS), drawings.drawn(BENDS, 2), two, fields.first_leap_of(two)]
+                    paths.first_leap(BENDS), drawings.drawn(BENDS, 2), two, fields.first_leap_of(two),
+                    spans.spans(BENDS, 2, (0, 1, 3, 3)), gaps.widest(BENDS, 2), alikes.alike_in(BENDS, BENDS)]
 
         before = answers()
         for wrong in wrong_books():
@@ -223,6 +290,8 @@ class Errors(unittest.TestCase):
         self.assertRaises(errors.InvalidNumber, threads.thread, BENDS, 2, 3, -1)
         self.assertRaises(errors.InvalidDepth, growth.sums, BENDS, -1)
         self.assertRaises(errors.InvalidField, fields.first_leap_of, (BENDS, ()))
+        self.assertRaises(errors.InvalidBox, spans.spans, BENDS, 2, (0, 0, 5, 5))
+        self.assertRaises(errors.InvalidPair, alikes.alike_in, BENDS, PEANO)
         self.assertEqual(answers(), before)
 
     def test_lists_that_are_wrong_stay_as_they_are(self):
@@ -230,7 +299,8 @@ class Errors(unittest.TestCase):
         before = copy.deepcopy(told)
         self.assertIs(books.is_book(told), False)
         for function, names in ARGUMENTS.items():
-            values = [dict(RIGHT, book=told, field=(told, ((0, 0, 0),)))[name] for name in names]
+            of_sorts = dict(RIGHT, book=told, field=(told, ((0, 0, 0),)))
+            values = [of_sorts[sort_of(function, name)] for name in names]
             self.assert_raises(function, names, values, names[0])
         self.assertEqual(told, before)
 
