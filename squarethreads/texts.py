@@ -7,24 +7,24 @@ def show_book(book):
     return "\n".join([f"book {b}"] + [_show_rows(parts) for parts in kinds])
 
 
-def _show_integers(integers):
+def show_integers(integers):
     """Return the integers, separated by a space."""
     return " ".join([str(integer) for integer in integers])
 
 
 def _show_rows(rows):
     """Return rows of integers, separated by a comma and a space."""
-    return ", ".join([_show_integers(row) for row in rows])
+    return ", ".join([show_integers(row) for row in rows])
 
 
 def show_cell(cell):
     """Return the text of a cell."""
-    return _show_integers(cell)
+    return show_integers(cell)
 
 
 def show_box(box):
     """Return the text of a box."""
-    return _show_integers(box)
+    return show_integers(box)
 
 
 def show_spans(spans):

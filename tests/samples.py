@@ -298,3 +298,117 @@ def wrong_boxes(size):
         for wrong in (None, True, False, "0", "1", "", b"1", 0.0, 1.0, (), (1,), [], [1], {}, -1):
             boxes.append(right[:at] + (wrong,) + right[at + 1:])
     return boxes
+
+
+CUP = (2, ((0, 0), (0, 1), (1, 1), (1, 0)))
+# The make of the cup whose thread is bends.
+BENT = ((0, 1, 0), (0, 0, 0), (0, 0, 0), (2, 1, 0))
+SNAKE = (3, _SNAKE)
+ALL_TURNS = [(way, mirror, back) for way in range(4) for mirror in range(2) for back in range(2)]
+
+
+def all_pictures(b):
+    """All pictures: all ways through the places by neighbors, from every place."""
+    places = [(x, y) for x in range(b) for y in range(b)]
+    ways = [(place,) for place in places]
+    for _ in range(b * b - 1):
+        ways = [way + (place,) for way in ways for place in places if place not in way and near(way[-1], place)]
+    return [(b, way) for way in ways]
+
+
+def random_make(seed, many):
+    """So many turns, the same ones for the same seed."""
+    chance = random.Random(f"make {seed} {many}")
+    return tuple(chance.choice(ALL_TURNS) for _ in range(many))
+
+
+def mother_in_words(picture, make, d):
+    """Promise 11, word by word: the cells of the thread of the mother at a depth."""
+    if d == 0:
+        return [(0, 0)]
+    b, places = picture
+    side = b ** (d - 1)
+    before = mother_in_words(picture, make, d - 1)
+    cells = []
+    for (x, y), (way, mirror, back) in zip(places, make):
+        moved = [cell_in_posture(side, (way, mirror), cell) for cell in before]
+        cells += [(x * side + u, y * side + v) for u, v in (moved[::-1] if back else moved)]
+    return cells
+
+
+def some_stores():
+    """Stores of many books and depths, of no number to two hundred."""
+    stores = []
+    for seed, book in enumerate(small_books() + large_books()):
+        for at, (d, many) in enumerate(((0, 0), (0, 1), (1, 2), (2, 7), (3, 20), (3, 60), (60, 200))):
+            if (seed + at) % 3 == 0:
+                continue
+            chance = random.Random(f"store {seed} {d} {many}")
+            cells = book[0] ** (2 * d)
+            stores.append((book, d, tuple(sorted({chance.randrange(cells) for _ in range(many)}))))
+    stores.append((ROWS, 2, tuple(range(16))))
+    return stores
+
+
+def wrong_pictures():
+    """What is no picture, in many ways."""
+    b, places = CUP
+    pictures = wrong_books() + [ROWS, PEANO, places, (places,), (b,), (places, b), [b, places], (b, list(places)),
+                                (b, places, 0), (b, places, None), {b: places}, (b, places[:3]), (b, places + places[:1]),
+                                (b, places * 2), (3, places), (2, SNAKE[1]), (4, tuple(
+                                    (x, y if x % 2 == 0 else 3 - y) for x in range(4) for y in range(4)))]
+    pictures += [(wrong, places) for wrong in (0, 1, 3, 4, -2, True, False, None, "2", 2.0, (2,), [2], 10 ** 30)]
+    pictures += [(1, ((0, 0),)), (True, ((0, 0),)), (0, ()), (2, ()), (3, ()), (2, None), (2, "0011"), (2, {}), (2, 4)]
+    pictures += [(2, ((0, 0), (1, 1), (0, 1), (1, 0))), (2, ((0, 0), (0, 1), (1, 0), (1, 1))), (2, ((0, 0),) * 4),
+                 (2, ((0, 0), (0, 1), (0, 0), (0, 1))), (2, ((0, 0), (0, 1), (1, 1), (0, 1)))]
+    for at in range(4):
+        x, y = places[at]
+        for wrong in ((), (x,), (x, y, 0), [x, y], None, True, 0, "00", "", {}, {x: y}, (x, 2), (2, y), (-1, y), (x, -1),
+                      (bool(x), y), (x, bool(y)), (str(x), y), (x, str(y)), (float(x), y), (x, None), ([x], y), (x, [y]),
+                      ((x, y),), (x + 10 ** 30, y), places[at - 1]):
+            pictures.append((b, places[:at] + (wrong,) + places[at + 1:]))
+    snake = SNAKE[1]
+    pictures += [(3, snake[:at] + (snake[at + 1], snake[at]) + snake[at + 2:]) for at in range(8)]
+    pictures += [(3, snake[:8]), (3, snake[:8] + ((3, 2),)), (3, snake[:8] + ([2, 2],)), (3, snake + ((3, 2),))]
+    return pictures
+
+
+def wrong_makes(picture):
+    """What is no make of a picture, in many ways."""
+    many = picture[0] ** 2
+    make = random_make(1, many)
+    makes = [None, True, False, 0, many, "", "0000", b"0000", 0.0, [], (), {}, list(make), make[:-1], make + make[:1],
+             make * 2, (make,), (0, 0, 0), ((0, 0, 0),) * (13 - many), picture, {make[0]: 1}, (None,) * many,
+             (True,) * many, (0,) * many, ("000",) * many, ((0, 0),) * many, ((0, 0, 0, 0),) * many, ((),) * many,
+             (((0, 0), 0),) * many]
+    for at in range(many):
+        way, mirror, back = make[at]
+        for wrong in (
+            (), (way,), (way, mirror), (way, mirror, back, 0), ((way, mirror), back), [way, mirror, back], None, True, 0,
+            "000", {}, (4, mirror, back), (-1, mirror, back), (10 ** 30, mirror, back), (way, 2, back), (way, -1, back),
+            (way, mirror, 2), (way, mirror, -1), (True, mirror, back), (way, True, back), (way, mirror, True),
+            (way, False, back), (way, mirror, False), (str(way), mirror, back), (way, str(mirror), back),
+            (way, mirror, str(back)), (None, mirror, back), (way, None, back), (way, mirror, None), (0.0, 0, 0),
+            (way, 0.0, back), (way, mirror, 1.0), ([way], mirror, back), (way, [mirror], back), (way, mirror, [back]),
+        ):
+            makes.append(make[:at] + (wrong,) + make[at + 1:])
+    return makes
+
+
+def wrong_stores():
+    """What is no store, in many ways."""
+    numbers = (3, 7, 12)
+    stores = wrong_books() + [ROWS, BENDS, (BENDS,), (BENDS, 2), (BENDS, numbers), (BENDS, numbers, 2), (2, BENDS, numbers)]
+    stores += [[BENDS, 2, numbers], (BENDS, 2, numbers, 0), (BENDS, 2, numbers, None), (BENDS, 2, list(numbers)),
+               {0: BENDS, 1: 2, 2: numbers}, (BENDS, 2, numbers, numbers), (numbers, 2, BENDS)]
+    stores += [(book, 2, numbers) for book in wrong_books()]
+    stores += [(BENDS, d, numbers) for d in (-1, -2, 0, 1, True, False, None, "2", "", 2.0, (2,), [2], {}, -10 ** 30)]
+    stores += [(BENDS, d, ()) for d in (-1, True, False, None, "2", 2.0, (2,), [2], {})]
+    stores += [(BENDS, 2, told) for told in (
+        None, True, False, 0, 3, "", "37", b"37", [], {}, {3: 7}, {3, 7}, (None,), (True,), (False,), (False, True),
+        ("3",), (3.0,), ((3,),), ([3],), ({},), (-1,), (16,), (17,), (10 ** 60,), (-1, 3), (3, 16), (3, 3), (7, 3),
+        (3, 7, 7), (3, 12, 7), (3, 7, 3), (0, 0), (3, None), (None, 3), (3, True), (True, 3), (0, True), (False, 1),
+        (3, "7"), (3, 7.0), numbers + (12,), (12, 7, 3), (numbers,), (3, (7,)), (3, [7]),
+    )]
+    stores += [(PEANO, 1, (9,)), (PEANO, 1, (8, 9)), (ROWS, 0, (1,)), (ROWS, 0, (0, 1)), (ROWS, 60, (4 ** 60,))]
+    return stores

@@ -3,16 +3,21 @@
 import time
 import unittest
 
-from samples import ALL_POSTURES, BENDS, PEANO, chain, copies, large_books, one_sequence_book, random_book
+from samples import (
+    ALL_POSTURES, BENDS, PEANO, all_pictures, chain, copies, large_books, one_sequence_book, random_book, random_make,
+)
 from squarethreads.alikes import alike_in, same_kinds, unlike
 from squarethreads.books import backward, begun_at, is_book, least, postures, turned
+from squarethreads.consoles import Console
 from squarethreads.drawings import drawn, numbers_drawn
 from squarethreads.fields import field_cell, field_number, first_leap_of, is_field, is_path_field, row_field
 from squarethreads.gaps import gap, gap_sum, greatest_gap, widest
 from squarethreads.growth import rule, sum_at, sums
+from squarethreads.makers import goes_on, how_many_makes, made, makes
 from squarethreads.paths import ends, first_leap, is_path, is_path_at, is_ring, leaps
 from squarethreads.readers import read_book, read_field, read_spans
 from squarethreads.spans import at_most, cells_in, how_many, last_in, next_in, spans
+from squarethreads.stores import asked, in_box, leapt, nearest, store_of
 from squarethreads.texts import show_book, show_field, show_spans
 from squarethreads.threads import cell_of, first_cell, kinds_on, last_cell, number_of, thread, whole
 
@@ -118,6 +123,36 @@ class Bounds(unittest.TestCase):
             size = book[0] ** 6
             found = spans(book, 6, (1, 1, size - 1, size - 1))
             self.assertEqual(self.quickly(read_spans, self.quickly(show_spans, found)), found)
+
+    def test_makers(self):
+        for picture in all_pictures(2) + all_pictures(3):
+            for seed in range(3):
+                make = random_make(seed, len(picture[1]))
+                self.assertLessEqual(len(self.quickly(made, picture, make)[1]), 16)
+                self.quickly(goes_on, picture, make)
+            if picture[0] == 2:
+                self.assertEqual(self.quickly(how_many_makes, picture), len(self.quickly(makes, picture)))
+
+    def test_stores(self):
+        for book in self.books:
+            for d in (6, 60):
+                size = book[0] ** d
+                cells = [(k ** 40 % size, k ** 41 % size) for k in range(200)]
+                store = self.quickly(store_of, book, d, cells * 3)
+                for box in ((1, 1, size - 1, size - 1), (size // 3, 5, size // 2, size // 2)):
+                    many = len(self.quickly(in_box, store, box))
+                    self.assertTrue(many <= self.quickly(leapt, store, box) <= 200)
+                    if d == 6:
+                        self.quickly(asked, store, box, 3)
+                self.quickly(nearest, store, (size // 3, size // 5), 200)
+
+    def test_consoles(self):
+        console = Console()
+        for k in range(600):
+            self.quickly(console.order, f"book a\n{show_book(self.books[k % len(self.books)])}")
+        for k in range(600):
+            self.quickly(console.order, "undo")
+        self.assertEqual(console.names(), [])
 
     def test_growth(self):
         for b in (2, 3):

@@ -56,6 +56,20 @@ TEXTS = """
 >>> [show_book(rows), show_spans(((0, 5), (6, 7))), show_field((rows, ((1, 0, 0),)))]
 ['book 2\\n0 0 0, 1 0 0, 0 1 0, 1 1 0', '0-5 6-7', 'field 1 0 0\\nbook 2\\n0 0 0, 1 0 0, 0 1 0, 1 1 0']
 """
+MAKERS = """
+>>> from squarethreads.makers import goes_on, how_many_makes, is_picture, made
+>>> cup = (2, ((0, 0), (0, 1), (1, 1), (1, 0)))
+>>> [is_picture(cup), is_picture((2, ((0, 0), (1, 1), (0, 1), (1, 0)))), made(cup, ((0, 0, 0),) * 4)]
+[True, False, (2, (((0, 0, 0), (0, 1, 0), (1, 1, 0), (1, 0, 0)),))]
+>>> [goes_on(cup, ((0, 1, 0), (0, 0, 0), (0, 0, 0), (2, 1, 0))), goes_on(cup, ((0, 0, 0),) * 4)]
+[True, False]
+"""
+STORES = """
+>>> from squarethreads.stores import asked, in_box, leapt, nearest, store_of
+>>> some = store_of(rows, 2, [(0, 0), (1, 1), (3, 1), (2, 2), (3, 3)])
+>>> [some[2], in_box(some, (1, 1, 3, 3)), asked(some, (1, 1, 3, 3), 1), leapt(some, (1, 1, 3, 3)), nearest(some, (2, 1), 2)]
+[(0, 3, 7, 12, 15), (3, 12), (2, 1), 5, (3, 7)]
+"""
 
 
 class Examples(unittest.TestCase):
@@ -70,7 +84,7 @@ class Examples(unittest.TestCase):
 
     def test_books_then_all_others(self):
         names = self.run_examples(BOOKS, {})
-        for text in (THREADS, PATHS, SPANS, GAPS, ALIKES, GROWTH, FIELDS, DRAWINGS, TEXTS):
+        for text in (THREADS, PATHS, SPANS, GAPS, ALIKES, GROWTH, FIELDS, MAKERS, STORES, DRAWINGS, TEXTS):
             names = self.run_examples(text, names)
 
 

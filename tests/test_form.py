@@ -22,6 +22,9 @@ INTERFACE = {
     "spans": ("spans", "how_many", "cells_in", "next_in", "last_in", "at_most"),
     "gaps": ("gap", "greatest_gap", "widest", "gap_sum"),
     "alikes": ("unlike", "alike_in", "same_kinds"),
+    "makers": ("is_picture", "is_make", "made", "goes_on", "makes", "how_many_makes"),
+    "stores": ("is_store", "store_of", "in_box", "asked", "leapt", "nearest"),
+    "consoles": ("Console",),
     "texts": ("show_book", "show_cell", "show_box", "show_spans", "show_field", "show_make"),
     "readers": ("read_book", "read_cell", "read_box", "read_spans", "read_field", "read_make"),
 }
@@ -78,6 +81,14 @@ class Form(unittest.TestCase):
                 defined = [node.name for node in ast.parse(file.read()).body if hasattr(node, "name")]
             self.assertEqual([word for word in told if word not in defined], [])
             self.assertEqual(len(defined), len(set(defined)))
+
+    def test_methods_are_defined_in_their_class(self):
+        told = importlib.import_module("squarethreads.consoles").Console
+        for word in ("keep", "drop", "undo", "book", "names", "order"):
+            self.assertIn(word, vars(told))
+        parameters = [list(inspect.signature(vars(told)[word]).parameters)[1:] for word in ("keep", "drop", "undo", "book",
+                                                                                        "names", "order")]
+        self.assertEqual(parameters, [["name", "book"], ["name"], [], ["name"], [], ["text"]])
 
 
 if __name__ == "__main__":

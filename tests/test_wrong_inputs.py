@@ -5,8 +5,13 @@ import inspect
 import itertools
 import unittest
 
-from samples import BENDS, PEANO, ROWS, random_book, wrong_books, wrong_boxes, wrong_fields
-from squarethreads import alikes, books, drawings, errors, fields, gaps, growth, paths, spans, threads
+from samples import (
+    BENDS, BENT, CUP, PEANO, ROWS, SNAKE, random_book, random_make, wrong_books, wrong_boxes, wrong_fields, wrong_makes,
+    wrong_pictures, wrong_stores,
+)
+from squarethreads import (
+    alikes, books, drawings, errors, fields, gaps, growth, makers, paths, spans, stores, threads,
+)
 
 # Of each function the arguments, in the sequence in which the sections list their errors.
 ARGUMENTS = {
@@ -51,6 +56,16 @@ ARGUMENTS = {
     alikes.unlike: ("one", "other"),
     alikes.alike_in: ("one", "other"),
     alikes.same_kinds: ("book",),
+    makers.is_make: ("picture", "told"),
+    makers.made: ("picture", "make"),
+    makers.goes_on: ("picture", "make"),
+    makers.makes: ("picture",),
+    makers.how_many_makes: ("picture",),
+    stores.store_of: ("book", "d", "cells"),
+    stores.in_box: ("store", "box"),
+    stores.asked: ("store", "box", "most"),
+    stores.leapt: ("store", "box"),
+    stores.nearest: ("store", "cell", "k"),
 }
 # What sort an argument is of, where its name does not tell it.
 SORTS = {
@@ -58,6 +73,7 @@ SORTS = {
     (gaps.greatest_gap, "d"): "deep", (gaps.widest, "d"): "deep", (fields.row_field, "many"): "most",
     (alikes.unlike, "one"): "book", (alikes.unlike, "other"): "book",
     (alikes.alike_in, "one"): "book", (alikes.alike_in, "other"): "book",
+    (makers.is_make, "told"): "anything", (stores.nearest, "k"): "most",
     (fields.field_number, "cell"): "field's cell", (fields.field_cell, "number"): "field's number",
 }
 ERRORS = {
@@ -65,11 +81,13 @@ ERRORS = {
     "d": errors.InvalidDepth, "cell": errors.InvalidCell, "number": errors.InvalidNumber,
     "first": errors.InvalidNumber, "many": errors.InvalidNumber, "n": errors.InvalidDepth, "field": errors.InvalidField,
     "box": errors.InvalidBox, "most": errors.InvalidNumber, "deep": errors.InvalidDepth,
-    "field's cell": errors.InvalidCell, "field's number": errors.InvalidNumber,
+    "field's cell": errors.InvalidCell, "field's number": errors.InvalidNumber, "picture": errors.InvalidPicture,
+    "make": errors.InvalidMake, "store": errors.InvalidStore, "cells": errors.InvalidCell,
 }
 RIGHT = {
     "kind": 0, "posture": (3, 1), "d": 2, "n": 2, "cell": (1, 2), "number": 7, "first": 3, "many": 2, "deep": 2,
-    "box": (1, 0, 3, 2), "most": 2, "field's cell": (1, 2), "field's number": 7,
+    "box": (1, 0, 3, 2), "most": 2, "field's cell": (1, 2), "field's number": 7, "cells": [(1, 2), (0, 0), (1, 2)],
+    "picture": CUP, "make": BENT, "anything": BENT,
 }
 GROWTH = (growth.sums, growth.rule, growth.sum_at)
 # The place (0, 0) among them, so that the right cell of a thread is one of the field, too.
@@ -110,6 +128,9 @@ def right_values(function, book, d=2):
     """Right values of all arguments of a function, for a book and a depth."""
     last = len(book[1]) - 1
     of_sorts = dict(RIGHT, book=book, d=d, deep=d, field=(book, tuple((x, y, last) for x, y in PLACES)))
+    of_sorts["store"] = (book, d, (0, 3, 5, 11))
+    if book[0] == 3 and function in (makers.made, makers.goes_on):
+        of_sorts["picture"], of_sorts["make"] = SNAKE, random_make(0, 9)
     return {name: of_sorts[sort_of(function, name)] for name in ARGUMENTS[function]}
 
 
@@ -122,6 +143,19 @@ def wrongs(sort, book, d):
         return wrong_fields()
     if sort == "box":
         return wrong_boxes(size)
+    if sort == "store":
+        return wrong_stores()
+    if sort == "picture":
+        return wrong_pictures()
+    if sort == "make":
+        return wrong_makes(CUP if book[0] == 2 else SNAKE)
+    if sort == "anything":
+        return []
+    if sort == "cells":
+        cells = wrong_pairs((size - 1, size - 1), [size, size + 1, 3 * size, 10 ** 60])
+        wrong = [[cell] for cell in cells] + [((0, 0), cell, (0, 0)) for cell in cells] + [[(0, 0), cell] for cell in cells]
+        none = [told for told in cells if not isinstance(told, (list, tuple))]
+        return wrong + none + [set(), {(0, 0)}, {(0, 0): 0}, range(0), "", b"", (0, 0), [0, 0], (0,), [None], [[]], ((),)]
     if sort == "field's cell":
         return wrong_pairs((size, 0), [5 * size, 10 ** 60]) + [
             (0, 3 * size), (size, size), (0, 2 * size - 1), (2 * size, 0), (2 * size - 1, size), (size, 4 * size)]
@@ -157,7 +191,7 @@ class Errors(unittest.TestCase):
             self.assertEqual(repr(values), repr(before))
 
     def test_names_of_the_arguments(self):
-        for function in (books.is_book, fields.is_field):
+        for function in (books.is_book, fields.is_field, makers.is_picture, stores.is_store):
             self.assertEqual(tuple(inspect.signature(function).parameters), ("told",))
         for function, names in ARGUMENTS.items():
             self.assertEqual(tuple(inspect.signature(function).parameters), names)
@@ -178,8 +212,8 @@ class Errors(unittest.TestCase):
                 right = right_values(function, book, d)
                 for name in names:
                     sort = sort_of(function, name)
-                    if sort in ("book", "field") and book != ROWS:
-                        # What is no book and no field is so whatever the others are.
+                    if sort in ("book", "field", "store", "picture") and book != ROWS:
+                        # What is no book, no field, no store and no picture is so whatever the others are.
                         continue
                     for wrong in wrongs(sort, book, d):
                         values = [wrong if other == name else right[other] for other in names]
@@ -193,13 +227,16 @@ class Errors(unittest.TestCase):
             "first": [-2, 99999, True, None], "many": [-3, False, None, [1]], "n": [-1, False, None, [2]],
             "field": [None, BENDS, [BENDS, ((0, 0, 0),)], (BENDS, ()), (BENDS, ((0, 0, 4),)), (BENDS, [(0, 0, 0)])],
             "box": [(0, 0, 0, 1), (0, 0, 5, 1), [0, 0, 1, 1], (1, 0, 0, 1), None], "most": [0, -1, True, None],
-            "deep": [0, -1, True, None],
+            "deep": [0, -1, True, None], "cells": [None, [(0, 4)], ((0, 0), [0, 0]), {}],
+            "store": [None, BENDS, [BENDS, 2, ()], (BENDS, 2, [3]), (BENDS, 2, (3, 3)), (BENDS, True, ()), (BENDS, 0, (1,))],
+            "picture": [None, (2, CUP[1][:3]), [2, CUP[1]], (3, CUP[1])], "anything": [None, 0, [BENT]],
+            "make": [None, BENT[:3], list(BENT), (0, 0, 0), BENT[:3] + ((4, 0, 0),)],
         }
         few["field's cell"], few["field's number"] = few["cell"], few["number"]
         for function, names in ARGUMENTS.items():
             right = right_values(function, BENDS)
             for which in itertools.product((False, True), repeat=len(names)):
-                if not any(which):
+                if not any(which) or sort_of(function, names[which.index(True)]) == "anything":
                     continue
                 first = names[which.index(True)]
                 choices = [few[sort_of(function, name)] if wrong else [right[name]] for name, wrong in zip(names, which)]
@@ -281,7 +318,8 @@ class Errors(unittest.TestCase):
             two = fields.row_field(BENDS, 1, 2)
             return [threads.whole(BENDS, 2), books.postures(BENDS), books.least(BENDS), growth.sums(BENDS, 5),
                     paths.first_leap(BENDS), drawings.drawn(BENDS, 2), two, fields.first_leap_of(two),
-                    spans.spans(BENDS, 2, (0, 1, 3, 3)), gaps.widest(BENDS, 2), alikes.alike_in(BENDS, BENDS)]
+                    spans.spans(BENDS, 2, (0, 1, 3, 3)), gaps.widest(BENDS, 2), alikes.alike_in(BENDS, BENDS),
+                    makers.makes(CUP), stores.nearest((BENDS, 2, (3, 7)), (0, 0), 1)]
 
         before = answers()
         for wrong in wrong_books():
@@ -292,6 +330,8 @@ class Errors(unittest.TestCase):
         self.assertRaises(errors.InvalidField, fields.first_leap_of, (BENDS, ()))
         self.assertRaises(errors.InvalidBox, spans.spans, BENDS, 2, (0, 0, 5, 5))
         self.assertRaises(errors.InvalidPair, alikes.alike_in, BENDS, PEANO)
+        self.assertRaises(errors.InvalidMake, makers.made, CUP, BENT[:3])
+        self.assertRaises(errors.InvalidNumber, stores.nearest, (BENDS, 2, (3, 7)), (0, 0), 0)
         self.assertEqual(answers(), before)
 
     def test_lists_that_are_wrong_stay_as_they_are(self):
@@ -299,7 +339,9 @@ class Errors(unittest.TestCase):
         before = copy.deepcopy(told)
         self.assertIs(books.is_book(told), False)
         for function, names in ARGUMENTS.items():
-            of_sorts = dict(RIGHT, book=told, field=(told, ((0, 0, 0),)))
+            of_sorts = dict(RIGHT, book=told, field=(told, ((0, 0, 0),)), store=(told, 2, (3,)))
+            if names[0] == "picture":
+                of_sorts["picture"] = told
             values = [of_sorts[sort_of(function, name)] for name in names]
             self.assert_raises(function, names, values, names[0])
         self.assertEqual(told, before)
