@@ -93,10 +93,9 @@ def leapt(store, box):
 
 
 def _first_from(numbers, at, least):
-    """Return the index, behind one, of the first number from the least one on; behind all for None."""
+    """Return the index, from one on, of the first number from the least one on; behind all for None."""
     if least is None:
         return len(numbers)
-    at += 1
     while at < len(numbers) and numbers[at] < least:
         at += 1
     return at
@@ -107,7 +106,7 @@ def nearest(store, cell, k):
     _check_store(store)
     check_cell(store[0], store[1], cell)
     check_from_one(k)
-    # Numbers that are as near come by themselves.
+    # Of cells that are as near, the second of each pair decides: the number.
     found = sorted([(_distance(cell, _stored_cell(store, number)), number) for number in store[2]])
     return tuple([number for _, number in found[:k]])
 

@@ -21,7 +21,8 @@ ORDERS = (
 NO_NAMES = ("", " ", "A", "Rows", "rOws", "rows1", "1", "ro ws", "rows ", " rows", "abcdefghi", "a" * 9, "a" * 100, "ro-ws",
             "a_b", "a.b", "a\n", "\n", "a\nb", "\u00e9", "\u00df", "\u00aa", "rows\t", "~", "0", "none!")
 NO_TEXTS = (None, True, False, 0, 1, b"rows", (), ("rows",), [], ["rows"], {}, {"rows"}, 1.0, ROWS)
-NO_INTEGERS = ("", "-1", "+1", "00", "01", "007", "1.0", "x", "rows", "1,", "1_0", "9" * 41, "0" * 41, "None", "-0", "1-2")
+NO_INTEGERS = ("", "-1", "+1", "00", "01", "007", "1.0", "x", "rows", "1,", "1_0", "9" * 41, "0" * 41, "None", "-0", "1-2",
+               "\u00b2", "\u0663")
 
 
 def a_console():
